@@ -1,0 +1,1 @@
+"""Overpasses: planning roads whose prices change."""

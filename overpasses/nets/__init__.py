@@ -1,0 +1,1 @@
+"""Nets of places and links, and their texts (Part 1)."""
