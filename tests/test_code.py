@@ -22,6 +22,30 @@ INTERFACE = {
         "write_net": ["net"],
         "read_net": ["text"],
     },
+    "overpasses.pairs.orders": {
+        "is_order": ["net", "order"],
+        "ranks": ["order"],
+        "greedy_order": ["net"],
+    },
+    "overpasses.pairs.pairs": {
+        "pairs": ["net", "order"],
+        "upper": ["net", "order"],
+        "steps": ["net", "order"],
+        "chain": ["net", "order", "place"],
+        "witness": ["net", "order", "u", "v"],
+        "check_pairs": ["net", "order", "found", "ways"],
+        "needing": ["net", "order", "u", "v"],
+    },
+    "overpasses.filling.fill": {
+        "fill": ["net", "order"],
+        "lower_places": ["rows", "order"],
+        "check_filling": ["net", "order", "rows"],
+    },
+    "overpasses.filling.ways": {
+        "price_of": ["rows", "x", "y"],
+        "middle_of": ["rows", "x", "y"],
+        "road_of": ["rows", "x", "y"],
+    },
 }
 
 BUILTINS = """

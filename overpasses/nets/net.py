@@ -61,13 +61,9 @@ def with_price(net, a, b, value):
 
 def road_sum(net, road):
     """Returns the sum of a road, None if the list is not a road."""
-    n, links = net
-    if not road or not 0 <= road[0] < n:
+    if not road or not 0 <= road[0] < net[0]:
         return None
-    prices = {}
-    for a, b, there, back in links:
-        prices[(a, b)] = there
-        prices[(b, a)] = back
+    prices = link_ways(net)
     total = 0
     for a, b in zip(road, road[1:]):
         cost = prices.get((a, b))
@@ -75,6 +71,15 @@ def road_sum(net, road):
             return None
         total = total + cost
     return total
+
+
+def link_ways(net):
+    """Returns a dict from both ways of each link, open or shut, to their prices."""
+    prices = {}
+    for a, b, there, back in net[1]:
+        prices[(a, b)] = there
+        prices[(b, a)] = back
+    return prices
 
 
 def _link_index(net, a, b):
