@@ -223,3 +223,58 @@ def filling_by_definition(net, order):
         down = middle_by_definition(net, order, found, prices, high, low)
         rows.append((low, high, prices[low, high], prices[high, low], up, down))
     return rows
+
+
+def turned_round(net):
+    """The net in which each link has its two prices exchanged."""
+    return (net[0], [(a, b, back, there) for a, b, there, back in net[1]])
+
+
+def simple_roads(net, start, stop):
+    """All pairs of the sum and the road, for the roads from start to stop without a repetition."""
+    opened = {way: price for way, price in prices_of(net).items() if price is not None}
+    found = []
+
+    def go_on(total, road):
+        if road[-1] == stop:
+            found.append((total, road))
+            return
+        for other in range(net[0]):
+            if (road[-1], other) in opened and other not in road:
+                go_on(total + opened[road[-1], other], [*road, other])
+
+    go_on(0, [start])
+    return found
+
+
+def least_of_all_roads(net, start, stop):
+    """Point 506 for a small net; a road with a repetition is never the cheapest one."""
+    return min([total for total, _ in simple_roads(net, start, stop)], default=None)
+
+
+def least_sums(net):
+    """The least price of all roads for each two places, by admitting the places as inner ones, one after the other."""
+    n = net[0]
+    opened = prices_of(net)
+    sums = {(x, y): 0 if x == y else opened.get((x, y)) for x in range(n) for y in range(n)}
+    for place in range(n):
+        for x, y in sums:
+            sums[x, y] = least([sums[x, y], plus(sums[x, place], sums[place, y])])
+    return sums
+
+
+def ways_in_order(rows):
+    """The ways of a filling with their prices, in the order of the rows, the way up before the way down."""
+    found = {}
+    for low, high, up, down, *_ in rows:
+        found[low, high] = up
+        found[high, low] = down
+    return found
+
+
+def some_edits(rng, net, count):
+    """Edits of ways of the net, some of which set the price that is there already."""
+    ways = sorted(prices_of(net))
+    values = [None, 1, 2, 3, 5, 8, 40, TOP]
+    edits = [(*rng.choice(ways), rng.choice(values)) for _ in range(count if ways else 0)]
+    return [(a, b, prices_of(net)[a, b]) if rng.random() < 0.1 else (a, b, value) for a, b, value in edits]

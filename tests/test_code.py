@@ -7,6 +7,8 @@ import inspect
 import pathlib
 import unittest
 
+from overpasses.edits.session import Session
+
 ROOT = pathlib.Path(__file__).resolve().parent.parent
 PACKAGE = ROOT / "overpasses"
 
@@ -46,12 +48,60 @@ INTERFACE = {
         "middle_of": ["rows", "x", "y"],
         "road_of": ["rows", "x", "y"],
     },
+    "overpasses.answers.search": {
+        "up_sums": ["order", "rows", "place"],
+        "down_sums": ["order", "rows", "place"],
+        "answer": ["order", "rows", "start", "stop"],
+        "answers": ["order", "rows", "start", "stops"],
+    },
+    "overpasses.answers.roads": {
+        "answer_road": ["order", "rows", "start", "stop"],
+    },
+    "overpasses.answers.papers": {
+        "paper": ["net", "place"],
+        "check_answer": ["net", "start", "stop", "number", "road", "paper"],
+    },
+    "overpasses.labels.prices": {
+        "true_prices": ["order", "rows"],
+        "slack_ways": ["order", "rows"],
+        "without_slack": ["order", "rows"],
+    },
+    "overpasses.labels.labels": {
+        "labels": ["order", "rows"],
+        "label_answer": ["forward", "backward"],
+        "label_size": ["labels"],
+    },
+    "overpasses.best.roads": {
+        "best_roads": ["net", "start", "goal", "count"],
+    },
+    "overpasses.best.turns": {
+        "turn_net": ["net", "turns"],
+        "run_sum": ["net", "turns", "run"],
+        "answer_with_turns": ["net", "turns", "start", "goal"],
+        "check_turns": ["net", "turns", "start", "goal", "answer"],
+    },
+}
+
+SESSION = {
+    "__init__": ["net", "order"],
+    "edit": ["a", "b", "price"],
+    "edit_all": ["edits"],
+    "undo": [],
+    "looked": [],
+    "net": [],
+    "filling": [],
+    "price": ["x", "y"],
+    "road": ["x", "y"],
+    "copy": [],
 }
 
 BUILTINS = """
     len range enumerate zip min max sum abs sorted reversed int str bool list tuple dict set isinstance ord repr
     any all divmod ValueError KeyError IndexError LookupError ZeroDivisionError
 """.split()
+
+# An example that is run may leave its answer among the builtins, as `_`.
+TAKEN = set(dir(builtins)) - {"_"}
 
 LIBRARY = {"heapq", "math", "itertools", "collections"}
 
@@ -72,6 +122,12 @@ class Interface(unittest.TestCase):
                 function = getattr(module, name)
                 self.assertEqual(function.__module__, module_name)
                 self.assertEqual(list(inspect.signature(function).parameters), arguments)
+
+    def test_the_class(self):
+        self.assertEqual(Session.__module__, "overpasses.edits.session")
+        for name, arguments in SESSION.items():
+            method = vars(Session)[name]
+            self.assertEqual(list(inspect.signature(method).parameters), ["self", *arguments])
 
 
 class Rules(unittest.TestCase):
@@ -116,11 +172,11 @@ class Rules(unittest.TestCase):
     def test_builtins(self):
         for path, tree in trees():
             for node in ast.walk(tree):
-                if isinstance(node, ast.Name) and hasattr(builtins, node.id):
+                if isinstance(node, ast.Name) and node.id in TAKEN:
                     self.assertIsInstance(node.ctx, ast.Load, (path, node.id))
                     self.assertIn(node.id, BUILTINS, path)
                 if isinstance(node, ast.arg):
-                    self.assertFalse(hasattr(builtins, node.arg), (path, node.arg))
+                    self.assertNotIn(node.arg, TAKEN, path)
 
     def test_no_floats_and_no_percent_signs(self):
         for path, tree in trees():

@@ -43,6 +43,21 @@ def check_filling(net, order, rows):
     return True
 
 
+def fill_way(links, prices, places, x, y):
+    """Returns the price and the middle of the way from x to y, which has these lower places."""
+    price = links.get((x, y))
+    middle = None
+    for place in places:
+        first, second = prices[(x, place)], prices[(place, y)]
+        if first is None or second is None:
+            continue
+        # Only a lesser sum counts: the link and the lowest place come first.
+        if price is None or first + second < price:
+            price = first + second
+            middle = place
+    return price, middle
+
+
 def _lower_by_pair(found, order):
     """Returns a dict from each of the pairs to its lower places, the lowest one first."""
     above = {place: [] for place in order}
@@ -59,21 +74,6 @@ def _lower_by_pair(found, order):
 def _row(links, prices, lower, low, high):
     """Returns the row of a pair by the prices of the links and those of the lower pairs."""
     places = lower[(low, high)]
-    up, up_middle = _way(links, prices, places, low, high)
-    down, down_middle = _way(links, prices, places, high, low)
+    up, up_middle = fill_way(links, prices, places, low, high)
+    down, down_middle = fill_way(links, prices, places, high, low)
     return (low, high, up, down, up_middle, down_middle)
-
-
-def _way(links, prices, places, x, y):
-    """Returns the price and the middle of the way from x to y, which has these lower places."""
-    price = links.get((x, y))
-    middle = None
-    for place in places:
-        first, second = prices[(x, place)], prices[(place, y)]
-        if first is None or second is None:
-            continue
-        # Only a lesser sum counts: the link and the lowest place come first.
-        if price is None or first + second < price:
-            price = first + second
-            middle = place
-    return price, middle

@@ -35,8 +35,7 @@ def price(net, a, b):
 def neighbours(net, a):
     """Returns the places to which a link joins a, ascending."""
     n, links = net
-    if not 0 <= a < n:
-        raise NoPlace(a)
+    check_places(n, [a])
     # The order of the links already makes these ascend: the links from lower
     # places to a stand before those from a to higher ones.
     found = []
@@ -82,12 +81,31 @@ def link_ways(net):
     return prices
 
 
+def open_ways(net):
+    """Returns a dict from each open way of a link to its price, in ascending order of the ways."""
+    prices = link_ways(net)
+    return {way: prices[way] for way in sorted(prices) if prices[way] is not None}
+
+
+def ways_from(net):
+    """Returns a dict from each place to its next places over open ways, ascending, with the prices."""
+    found = {place: [] for place in range(net[0])}
+    for (a, b), cost in open_ways(net).items():
+        found[a].append((b, cost))
+    return found
+
+
+def check_places(n, places):
+    """Raises an error for the first of the integers that is not a place of a net of n places."""
+    for place in places:
+        if not 0 <= place < n:
+            raise NoPlace(place)
+
+
 def _link_index(net, a, b):
     """Returns the index of the link between a and b, or raises the error of `price`."""
     n, links = net
-    for place in (a, b):
-        if not 0 <= place < n:
-            raise NoPlace(place)
+    check_places(n, [a, b])
     ends = (min(a, b), max(a, b))
     for index, link in enumerate(links):
         if (link[0], link[1]) == ends:

@@ -2,8 +2,8 @@
 
 from itertools import combinations
 
-from overpasses.errors import NoPair, NoPlace
-from overpasses.nets.net import link_ways, neighbours
+from overpasses.errors import NoPair
+from overpasses.nets.net import check_places, link_ways, neighbours
 from overpasses.pairs.orders import ranks
 
 
@@ -38,8 +38,7 @@ def steps(net, order):
 
 def chain(net, order, place):
     """Returns the places to which the steps lead from a place, the place itself first."""
-    if not 0 <= place < net[0]:
-        raise NoPlace(place)
+    check_places(net[0], [place])
     step_from = steps(net, order)
     found = [place]
     step = step_from[place]

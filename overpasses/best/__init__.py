@@ -1,0 +1,1 @@
+"""The next best roads, and answers with turns (Part 7)."""

@@ -1,0 +1,1 @@
+"""True prices, slack ways and labels (Part 6)."""
